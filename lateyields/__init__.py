@@ -1,0 +1,1 @@
+"""Lateyields: walks that wait, are left early, and are cleaned up by a loop."""
