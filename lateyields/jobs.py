@@ -194,7 +194,7 @@ class Job:
 
     def hand_over_kept(self):
         """Hands the kept walks to the loop: the end has come, and the job is over."""
-        for name in sorted(list(self.kept)):
+        for name in sorted(set(self.kept)):
             self.world.hand_over(self, self.kept[name])
 
     def face_end(self):

@@ -16,8 +16,8 @@ class Program:
         reader = read_rows(self.rows)
         self.job_steps = reader.jobs
         self.walk_steps = reader.walks
-        self.jobs = tuple(sorted(list(reader.jobs)))
-        self.walks = tuple(sorted(list(reader.walks)))
+        self.jobs = tuple(sorted(set(reader.jobs)))
+        self.walks = tuple(sorted(set(reader.walks)))
         self.gates = tuple(sorted(set(reader.gates)))
 
     @staticmethod

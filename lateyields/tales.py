@@ -11,7 +11,7 @@ class Tale:
         # All orders have the same events, which do the same; so one of them tells it all.
         world = world_behind(program)
         self.program = program
-        self.events = tuple(sorted(list(world.deeds)))
+        self.events = tuple(sorted(set(world.deeds)))
         self.world = world
 
     def notes(self, event):
@@ -32,7 +32,7 @@ class Tale:
 
     def outcomes(self):
         """The outcome of each job that began."""
-        return {name: self.world.jobs[name].outcome for name in sorted(list(self.world.jobs))}
+        return {name: self.world.jobs[name].outcome for name in sorted(set(self.world.jobs))}
 
     def stuck(self):
         """The gate of each job that waited at the end."""
@@ -40,7 +40,8 @@ class Tale:
 
     def cleanups(self):
         """The ascending list of the late rows: first event, last event, and whether they were through."""
-        return sorted(self.world.late_rows)
+        rows = self.world.late_rows
+        return [row for row in sorted(set(rows)) for _ in range(rows.count(row))]
 
     def _deed(self, event):
         """What an event did. Callers pass any value, also one that cannot be a key."""

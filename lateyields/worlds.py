@@ -10,10 +10,19 @@ _MOST_ROWS = 400
 
 
 class Deed:
-    """What one event did: its notes, the names behind `open` and `begin`, the closers that it made."""
+    """What one event did.
 
-    def __init__(self, event):
-        self.event = event
+    It is the turn number `at` of `job`, or the end (then `job` is `end`). `is_behind` tells whether the end came ahead
+    of it, `gate` is the one behind whose `wait` the turn ended. `said` are its notes, `opened` and `begun` the names
+    behind `open` and `begin`, `made` the closers that it made.
+    """
+
+    def __init__(self, job, at, is_behind):
+        self.event = END if job == END else f"{job}.{at}"
+        self.job = job
+        self.at = at
+        self.is_behind = is_behind
+        self.gate = None
         self.said = []
         self.opened = []
         self.begun = []
@@ -40,26 +49,56 @@ class World:
         self.many = 0
         self.begin("main")
 
-    def able_jobs(self):
-        """The ascending list of the jobs whose next turn can come."""
-        return sorted([name for name in self.jobs if self._is_able(self.jobs[name])])
+    def able_names(self):
+        """The ascending list of what can come now: the names of jobs, or the end."""
+        names = sorted(set([name for name in self.jobs if self._is_able(self.jobs[name])]))
+        if names or self.is_ended:
+            return names
+        return [END]
 
     def _is_able(self, job):
-        if job.outcome is not None:
-            return False
-        return self.is_ended or job.gate is None or job.gate in self.gates
+        return job.outcome is None and self.gate_before(job) is None
+
+    def gate_before(self, job):
+        """The gate that is not open and keeps a job from its next turn, or None."""
+        if self.is_ended or job.gate in self.gates:
+            return None
+        return job.gate
+
+    def come(self, name):
+        """Lets the next turn of a job come, or the end."""
+        if name == END:
+            self.end()
+        else:
+            self.turn(name)
+
+    def come_all(self):
+        """Lets the least of what can come do so, until nothing can."""
+        able = self.able_names()
+        while able:
+            self.come(able[0])
+            able = self.able_names()
+
+    def again(self):
+        """Another world of the program, in which the same events came in the same order."""
+        world = World(self.program)
+        for deed in list(self.deeds.values()):
+            world.come(deed.job)
+        return world
 
     def turn(self, name):
         """Lets the next turn of a job come."""
         job = self.jobs[name]
-        self._begin_event(f"{name}.{job.turns}")
+        deed = Deed(name, job.turns, self.is_ended)
+        self._begin_event(deed)
         job.turn()
+        deed.gate = job.gate
 
     def end(self):
         """Lets the end come."""
-        self._begin_event(END)
+        self._begin_event(Deed(END, 0, False))
         self.is_ended = True
-        for name in sorted(list(self.jobs)):
+        for name in sorted(set(self.jobs)):
             job = self.jobs[name]
             if job.outcome is None:
                 self.waiting[name] = job.gate
@@ -67,9 +106,9 @@ class World:
             else:
                 job.hand_over_kept()
 
-    def _begin_event(self, event):
-        self.deed = Deed(event)
-        self.deeds[event] = self.deed
+    def _begin_event(self, deed):
+        self.deed = deed
+        self.deeds[deed.event] = deed
 
     def begin(self, name):
         """Lets the first turn of a job come, if it was not begun before."""
@@ -106,11 +145,5 @@ class World:
 def world_behind(program):
     """The world in which a program has been carried out to its last event."""
     world = World(program)
-    while True:
-        able = world.able_jobs()
-        if able:
-            world.turn(able[0])
-        elif world.is_ended:
-            return world
-        else:
-            world.end()
+    world.come_all()
+    return world

@@ -31,3 +31,22 @@ def raised(kind, work, *arguments, **more):
             return error
         raise
     raise AssertionError("no " + kind.__name__)
+
+
+class Like:
+    """A value that is equal to everything, and has the hash of one string."""
+
+    def __init__(self, word):
+        self.word = word
+
+    def __eq__(self, other):
+        return True
+
+    def __hash__(self):
+        return hash(self.word)
+
+
+def strange_values(word):
+    """Values that are not this string, nor any event, job or name."""
+    return ["", word + " ", " " + word, word.upper(), word + "\n", None, 0, 1, -1, True, False, 1.5, word.encode(),
+            (word,), [word], {word: 1}, {word}, frozenset([word]), Like(word), object(), len, 10 ** 5000]

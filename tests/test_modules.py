@@ -7,13 +7,22 @@ import unittest
 
 import lateyields
 from helper import read
-from lateyields import errors, programs, tales
+from lateyields import cuts, errors, loops, nets, programs, tales
 
 FOLDER = pathlib.Path(lateyields.__file__).parent
 FILES = sorted(FOLDER.glob("*.py"))
 
 ERRORS = ("LateError BadRow TooMany TooLong TooWide NotReady NoSchedule Never NoCut OtherNet Taken NoCommand "
           "Unknown").split()
+
+METHODS = {
+    programs.Program: "__str__ __eq__ __len__ turned",
+    tales.Tale: "notes opens begins drops outcomes stuck cleanups",
+    loops.Loop: "__call__ __iadd__ run finish cut places outcomes copied tried",
+    nets.Net: "needs notes __str__ __eq__ __len__ __contains__",
+    cuts.Cut: "__len__ __contains__ __add__ __or__ __and__ within __eq__ __lt__ __le__ __gt__ __ge__ packed",
+}
+STATIC = {programs.Program: "read", nets.Net: "of read", cuts.Cut: "unpacked without full"}
 
 # Words that the language of the package (LANGUAGE.md) bars from its names.
 BARRED = ("register mro elements open input law type typing enum dataclass eval exec exit compile dir vars "
@@ -22,30 +31,47 @@ BARRED = ("register mro elements open input law type typing enum dataclass eval 
 
 class Interface(unittest.TestCase):
     def test_names_are_defined_in_their_modules(self):
-        for module, names in ((errors, ERRORS), (programs, ["Program"]), (tales, ["Tale"])):
+        for module, names in ((errors, ERRORS), (programs, ["Program"]), (tales, ["Tale"]), (loops, ["Loop"]),
+                              (nets, ["Net"]), (cuts, ["Cut"])):
             for name in names:
                 found = getattr(module, name)
                 self.assertTrue(inspect.isclass(found))
                 self.assertEqual(found.__module__, module.__name__)
 
     def test_methods_stand_in_the_classes_themselves(self):
-        for name in ("__str__", "__eq__", "__len__", "read", "turned"):
-            self.assertIn(name, vars(programs.Program))
-        for name in ("notes", "opens", "begins", "drops", "outcomes", "stuck", "cleanups"):
-            self.assertIn(name, vars(tales.Tale))
-        self.assertIsInstance(vars(programs.Program)["read"], staticmethod)
+        for kind, names in METHODS.items():
+            for name in names.split():
+                self.assertTrue(inspect.isfunction(vars(kind)[name]), name)
+        for kind, names in STATIC.items():
+            for name in names.split():
+                self.assertIsInstance(vars(kind)[name], staticmethod)
+        for name in ("ready", "past", "is_over"):
+            self.assertIsInstance(vars(loops.Loop)[name], property)
 
     def test_arguments(self):
-        self.assertEqual(list(inspect.signature(programs.Program.read).parameters), ["text"])
-        self.assertEqual(list(inspect.signature(programs.Program.turned).parameters), ["self", "at", "how"])
-        self.assertEqual(list(inspect.signature(tales.Tale).parameters), ["program"])
-        for name in ("notes", "opens", "begins", "drops"):
-            self.assertEqual(list(inspect.signature(getattr(tales.Tale, name)).parameters), ["self", "event"])
+        for call, names in ((programs.Program.read, "text"), (programs.Program.turned, "self at how"),
+                            (tales.Tale, "program"), (tales.Tale.notes, "self event"), (tales.Tale.opens, "self event"),
+                            (tales.Tale.begins, "self event"), (tales.Tale.drops, "self event"),
+                            (loops.Loop, "program"), (loops.Loop.__call__, "self job"), (loops.Loop.run, "self jobs"),
+                            (loops.Loop.finish, "self"), (loops.Loop.cut, "self"), (loops.Loop.places, "self"),
+                            (loops.Loop.outcomes, "self"), (loops.Loop.copied, "self"),
+                            (loops.Loop.tried, "self work"), (nets.Net, "needs notes"), (nets.Net.of, "program"),
+                            (nets.Net.read, "text"), (nets.Net.needs, "self event"), (nets.Net.notes, "self event"),
+                            (cuts.Cut, "net events"), (cuts.Cut.within, "self other"), (cuts.Cut.packed, "self"),
+                            (cuts.Cut.unpacked, "net data"), (cuts.Cut.without, "net events"), (cuts.Cut.full, "net")):
+            self.assertEqual(list(inspect.signature(call).parameters), names.split())
+
+    def test_default_values(self):
+        self.assertIsNone(inspect.signature(nets.Net).parameters["notes"].default)
+        self.assertEqual(inspect.signature(cuts.Cut).parameters["events"].default, ())
 
     def test_attributes_are_set_when_the_object_is_made(self):
         program = read("job main; end")
+        net = nets.Net.of(program)
         self.assertLessEqual({"jobs", "walks", "gates"}, set(vars(program)))
         self.assertLessEqual({"program", "events"}, set(vars(tales.Tale(program))))
+        self.assertLessEqual({"events", "never"}, set(vars(net)))
+        self.assertLessEqual({"net", "events", "ready", "is_full"}, set(vars(cuts.Cut(net))))
 
 
 class Files(unittest.TestCase):
@@ -80,3 +106,11 @@ class Files(unittest.TestCase):
                 for name in (getattr(node, "id", None), getattr(node, "attr", None), getattr(node, "arg", None),
                              getattr(node, "name", None)):
                     self.assertNotIn(name, BARRED, path.name)
+
+    def test_what_is_sorted(self):
+        # Cuts have an order of their own, so what is sorted must plainly be no cuts: sets hold only plain values.
+        for path in FILES:
+            for node in ast.walk(ast.parse(path.read_text())):
+                if isinstance(node, ast.Call) and getattr(node.func, "id", None) == "sorted":
+                    self.assertEqual(node.args[0].func.id, "set", path.name)
+                self.assertNotEqual(getattr(node, "attr", None), "sort", path.name)

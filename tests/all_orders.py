@@ -1,0 +1,64 @@
+"""All orders of programs and nets, found the long way: by what the document says, without the package's own help."""
+
+from lateyields.loops import Loop
+
+
+def event_of(loop, name):
+    """The event that comes when `name` comes next."""
+    if name == "end":
+        return "end"
+    return name + "." + str(len([event for event in loop.past if event.rpartition(".")[0] == name]))
+
+
+def loops_behind(program, most=None):
+    """A loop behind each schedule of a program, ascending; None if there are more than `most`."""
+    found, begun = [], [Loop(program)]
+    while begun:
+        loop = begun.pop()
+        for name in loop.ready[1:]:
+            other = loop.copied()
+            other(name)
+            begun.append(other)
+        if loop.ready:
+            loop(loop.ready[0])
+            begun.append(loop)
+        else:
+            found.append(loop)
+        if most is not None and len(begun) + len(found) > most:
+            return None
+    return sorted(found, key=lambda loop: loop.past)
+
+
+def ready_of(net, came):
+    """The events of a net that can come behind these."""
+    return [event for event in net.events if event not in came
+            and all(any(one in came for one in need) for need in net.needs(event))]
+
+
+def cuts_of(net, most=None):
+    """All cuts of a net as sets of events; None if there are more than `most`."""
+    found, begun = {frozenset()}, [frozenset()]
+    while begun:
+        came = begun.pop()
+        for event in ready_of(net, came):
+            more = came | {event}
+            if more not in found:
+                found.add(more)
+                begun.append(more)
+        if most is not None and len(found) > most:
+            return None
+    return found
+
+
+def schedules_of(net, most=None):
+    """All schedules of a net, ascending; None if there are more than `most`."""
+    found, begun = [], [()]
+    while begun:
+        past = begun.pop()
+        ready = ready_of(net, set(past))
+        begun += [past + (event,) for event in ready]
+        if not ready:
+            found.append(past)
+        if most is not None and len(begun) + len(found) > most:
+            return None
+    return sorted(found)
