@@ -22,8 +22,8 @@ class Cut:
             raise NoCut(stuck[0])
         self.net = net
         self.events = tuple(came)
-        self.ready = tuple([event for event in able if event not in allowed])
-        self.is_full = len(self.ready) == 0
+        self._ready = tuple([event for event in able if event not in allowed])
+        self.is_full = len(self._ready) == 0
         self.rank = (str(net), len(self.events), self.events)
 
     @staticmethod
@@ -43,6 +43,12 @@ class Cut:
     def full(net):
         """The cut of all events that ever come."""
         return _greatest_cut(net, net.events)
+
+    @property
+    def ready(self):
+        """The ascending tuple of the events that are ready."""
+        # Loops have a property of this name, so no object can have it as a plain attribute.
+        return self._ready
 
     def within(self, other):
         """Whether all events of this cut are in another one, too."""

@@ -71,7 +71,9 @@ class Interface(unittest.TestCase):
         self.assertLessEqual({"jobs", "walks", "gates"}, set(vars(program)))
         self.assertLessEqual({"program", "events"}, set(vars(tales.Tale(program))))
         self.assertLessEqual({"events", "never"}, set(vars(net)))
-        self.assertLessEqual({"net", "events", "ready", "is_full"}, set(vars(cuts.Cut(net))))
+        cut = cuts.Cut(net)
+        self.assertLessEqual({"net", "events", "is_full"}, set(vars(cut)))
+        self.assertEqual(cut.ready, ("main.0",))
 
 
 class Files(unittest.TestCase):
@@ -114,3 +116,23 @@ class Files(unittest.TestCase):
                 if isinstance(node, ast.Call) and getattr(node.func, "id", None) == "sorted":
                     self.assertEqual(node.args[0].func.id, "set", path.name)
                 self.assertNotEqual(getattr(node, "attr", None), "sort", path.name)
+
+    def test_properties_are_assigned_nowhere(self):
+        trees = [ast.parse(path.read_text()) for path in FILES]
+        nodes = [node for tree in trees for node in ast.walk(tree)]
+        marks = [mark for node in nodes for mark in getattr(node, "decorator_list", ())]
+        self.assertLessEqual({getattr(mark, "id", None) for mark in marks}, {"property", "staticmethod"})
+        properties = {node.name for node in nodes for mark in getattr(node, "decorator_list", ())
+                      if mark.id == "property"}
+        stored = {node.attr for node in nodes if isinstance(node, ast.Attribute) and isinstance(node.ctx, ast.Store)}
+        methods = {node.name for node in nodes if isinstance(node, ast.FunctionDef)
+                   and "property" not in [mark.id for mark in node.decorator_list]}
+        self.assertEqual(properties, {"ready", "past", "is_over"})
+        self.assertEqual(properties & (stored | methods), set())
+
+    def test_no_name_is_a_method_and_an_attribute(self):
+        nodes = [node for path in FILES for node in ast.walk(ast.parse(path.read_text()))]
+        methods = {node.name for kind in nodes if isinstance(kind, ast.ClassDef)
+                   for node in kind.body if isinstance(node, ast.FunctionDef)}
+        stored = {node.attr for node in nodes if isinstance(node, ast.Attribute) and isinstance(node.ctx, ast.Store)}
+        self.assertEqual(methods & stored, set())
