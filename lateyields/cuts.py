@@ -1,6 +1,7 @@
 """Cuts: the events that can be the first ones of a schedule."""
 
-from lateyields.errors import NoCut, NotReady, OtherNet, Unknown
+from lateyields.checks import check_events
+from lateyields.errors import NoCut, NotReady, OtherNet
 
 _CAME = b"1"
 _OPEN = b"0"
@@ -13,7 +14,7 @@ class Cut:
     """
 
     def __init__(self, net, events=()):
-        _check_events(net, events)
+        check_events(net, events)
         allowed = {event: True for event in events}
         able = net.able_with(allowed)
         came = {event: True for event in able if event in allowed}
@@ -36,7 +37,7 @@ class Cut:
     @staticmethod
     def without(net, events):
         """The greatest cut in which none of these events is."""
-        _check_events(net, events)
+        check_events(net, events)
         return _greatest_cut(net, [event for event in net.events if event not in events])
 
     @staticmethod
@@ -107,12 +108,6 @@ def _greatest_cut(net, events):
     """The greatest cut that has no other events than these."""
     allowed = {event: True for event in events}
     return Cut(net, [event for event in net.able_with(allowed) if event in allowed])
-
-
-def _check_events(net, events):
-    for event in events:
-        if event not in net:
-            raise Unknown(event)
 
 
 def _check_nets(one, other):

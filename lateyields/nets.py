@@ -1,6 +1,7 @@
 """Nets: events, what each of them needs, and the notes that it makes."""
 
 from lateyields.causes import needs_of
+from lateyields.checks import check_named
 from lateyields.errors import Unknown
 from lateyields.net_rows import read_net_rows, row_of
 from lateyields.worlds import world_behind
@@ -15,7 +16,7 @@ class Net:
 
     def __init__(self, needs, notes=None):
         said = {} if notes is None else notes
-        _check_named(needs, said)
+        check_named([one for event in needs for need in needs[event] for one in need] + list(said), needs)
         self.events = tuple(sorted(set(needs)))
         self._needs = {event: _ascending(needs[event]) for event in self.events}
         self._notes = {event: tuple(said.get(event, ())) for event in self.events}
@@ -100,15 +101,3 @@ def _uses_of(needs):
             for one in need:
                 uses[one].append((event, at))
     return uses
-
-
-def _check_named(needs, notes):
-    """Refuses the least of all events in needs and keys of notes that are no events."""
-    named = [one for event in needs for need in needs[event] for one in need] + list(notes)
-    strange = [one for one in named if not isinstance(one, str) or one not in needs]
-    # Only strings have an order among each other.
-    words = sorted(set([one for one in strange if isinstance(one, str)]))
-    if words:
-        raise Unknown(words[0])
-    if strange:
-        raise Unknown(strange[0])

@@ -1,5 +1,6 @@
 """Programs: their texts, read and checked."""
 
+from lateyields.checks import is_index
 from lateyields.errors import BadRow
 from lateyields.reading import read_rows
 from lateyields.words import is_how
@@ -49,6 +50,4 @@ class Program:
 
     def _has_each(self, at):
         """Whether any value is the index of a row with `each`."""
-        if not isinstance(at, int) or isinstance(at, bool):
-            return False
-        return 0 <= at < len(self.rows) and self.rows[at].startswith("each ")
+        return is_index(at, len(self.rows)) and self.rows[at].startswith("each ")

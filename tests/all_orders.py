@@ -1,5 +1,7 @@
 """All orders of programs and nets, found the long way: by what the document says, without the package's own help."""
 
+import itertools
+
 from lateyields.loops import Loop
 
 
@@ -62,3 +64,22 @@ def schedules_of(net, most=None):
         if most is not None and len(begun) + len(found) > most:
             return None
     return sorted(found)
+
+
+def least_of(sets):
+    """Those of the sets that have no smaller one within them, as ascending tuples, by their number and then as such."""
+    least = [one for one in sets if not any(other < one for other in sets)]
+    return sorted((tuple(sorted(one)) for one in least), key=lambda row: (len(row), row))
+
+
+def ways_of(event, cuts):
+    """All ways of an event, by all cuts of its net."""
+    return least_of([cut for cut in cuts if event in cut])
+
+
+def blockers_of(net, event, cuts):
+    """All blockers of an event, by all sets of other events and all cuts of the net."""
+    others = [one for one in net.events if one != event]
+    having = [cut for cut in cuts if event in cut]
+    sets = [frozenset(row) for many in range(len(others) + 1) for row in itertools.combinations(others, many)]
+    return least_of([one for one in sets if all(one & cut for cut in having)])

@@ -7,7 +7,7 @@ import unittest
 
 import lateyields
 from helper import read
-from lateyields import cuts, errors, loops, nets, programs, tales
+from lateyields import cuts, errors, loops, nets, orders, programs, swaps, tales, ways
 
 FOLDER = pathlib.Path(lateyields.__file__).parent
 FILES = sorted(FOLDER.glob("*.py"))
@@ -15,12 +15,21 @@ FILES = sorted(FOLDER.glob("*.py"))
 ERRORS = ("LateError BadRow TooMany TooLong TooWide NotReady NoSchedule Never NoCut OtherNet Taken NoCommand "
           "Unknown").split()
 
+# The functions of each module, with their arguments; those behind a `*` are passed by name only.
+FUNCTIONS = {
+    orders: {"order_of": "net one other", "paper_of": "net one other", "latest": "net event", "round_of": "net event"},
+    swaps: {"swaps": "net one other", "distance": "net one other"},
+    ways: {"ways": "net event * most=4000", "blockers": "net event * most=4000", "earliest": "net event * most=4000",
+           "unlike_ways": "net * most=4000"},
+}
+
 METHODS = {
     programs.Program: "__str__ __eq__ __len__ turned",
     tales.Tale: "notes opens begins drops outcomes stuck cleanups",
     loops.Loop: "__call__ __iadd__ run finish cut places outcomes copied tried",
     nets.Net: "needs notes __str__ __eq__ __len__ __contains__",
     cuts.Cut: "__len__ __contains__ __add__ __or__ __and__ within __eq__ __lt__ __le__ __gt__ __ge__ packed",
+    orders.Paper: "holds",
 }
 STATIC = {programs.Program: "read", nets.Net: "of read", cuts.Cut: "unpacked without full"}
 
@@ -29,14 +38,32 @@ BARRED = ("register mro elements open input law type typing enum dataclass eval 
           "globals locals id help quit delattr breakpoint").split()
 
 
+def arguments_of(function):
+    """The arguments of a function, as one string."""
+    words = []
+    for one in inspect.signature(function).parameters.values():
+        if one.kind is one.KEYWORD_ONLY and "*" not in words:
+            words.append("*")
+        words.append(one.name if one.default is one.empty else one.name + "=" + repr(one.default))
+    return " ".join(words)
+
+
 class Interface(unittest.TestCase):
     def test_names_are_defined_in_their_modules(self):
         for module, names in ((errors, ERRORS), (programs, ["Program"]), (tales, ["Tale"]), (loops, ["Loop"]),
-                              (nets, ["Net"]), (cuts, ["Cut"])):
+                              (nets, ["Net"]), (cuts, ["Cut"]), (orders, ["Paper"])):
             for name in names:
                 found = getattr(module, name)
                 self.assertTrue(inspect.isclass(found))
                 self.assertEqual(found.__module__, module.__name__)
+
+    def test_functions_are_defined_in_their_modules(self):
+        for module, functions in FUNCTIONS.items():
+            for name, arguments in functions.items():
+                found = getattr(module, name)
+                self.assertTrue(inspect.isfunction(found))
+                self.assertEqual(found.__module__, module.__name__)
+                self.assertEqual(arguments_of(found), arguments)
 
     def test_methods_stand_in_the_classes_themselves(self):
         for kind, names in METHODS.items():
@@ -58,7 +85,8 @@ class Interface(unittest.TestCase):
                             (loops.Loop.tried, "self work"), (nets.Net, "needs notes"), (nets.Net.of, "program"),
                             (nets.Net.read, "text"), (nets.Net.needs, "self event"), (nets.Net.notes, "self event"),
                             (cuts.Cut, "net events"), (cuts.Cut.within, "self other"), (cuts.Cut.packed, "self"),
-                            (cuts.Cut.unpacked, "net data"), (cuts.Cut.without, "net events"), (cuts.Cut.full, "net")):
+                            (cuts.Cut.unpacked, "net data"), (cuts.Cut.without, "net events"), (cuts.Cut.full, "net"),
+                            (orders.Paper, "word one other events"), (orders.Paper.holds, "self net")):
             self.assertEqual(list(inspect.signature(call).parameters), names.split())
 
     def test_default_values(self):
@@ -74,6 +102,7 @@ class Interface(unittest.TestCase):
         cut = cuts.Cut(net)
         self.assertLessEqual({"net", "events", "is_full"}, set(vars(cut)))
         self.assertEqual(cut.ready, ("main.0",))
+        self.assertLessEqual({"word", "one", "other", "events"}, set(vars(orders.Paper("", "", "", ""))))
 
 
 class Files(unittest.TestCase):
