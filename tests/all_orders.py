@@ -83,3 +83,20 @@ def blockers_of(net, event, cuts):
     having = [cut for cut in cuts if event in cut]
     sets = [frozenset(row) for many in range(len(others) + 1) for row in itertools.combinations(others, many)]
     return least_of([one for one in sets if all(one & cut for cut in having)])
+
+
+def log_of(net, row):
+    """The notes of a row of events, without those that have none."""
+    return tuple(net.notes(event) for event in row if net.notes(event))
+
+
+def states_of(net, schedules):
+    """For each row with which a log begins the set of its cuts, by all schedules."""
+    found = {}
+    for past in schedules:
+        for many in range(len(past) + 1):
+            came = set(past[:many])
+            while silent := [event for event in ready_of(net, came) if not net.notes(event)]:
+                came |= set(silent)
+            found.setdefault(log_of(net, past[:many]), set()).add(frozenset(came))
+    return {row: frozenset(found[row]) for row in found}

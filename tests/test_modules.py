@@ -7,7 +7,8 @@ import unittest
 
 import lateyields
 from helper import read
-from lateyields import cuts, errors, loops, nets, orders, programs, swaps, tales, ways
+from lateyields import (counts, cuts, errors, joins, logs, loops, nets, orders, programs, shelf, swaps, tales,
+                        ways)
 
 FOLDER = pathlib.Path(lateyields.__file__).parent
 FILES = sorted(FOLDER.glob("*.py"))
@@ -21,6 +22,12 @@ FUNCTIONS = {
     swaps: {"swaps": "net one other", "distance": "net one other"},
     ways: {"ways": "net event * most=4000", "blockers": "net event * most=4000", "earliest": "net event * most=4000",
            "unlike_ways": "net * most=4000"},
+    counts: {"cuts_of": "net * most=4000", "schedules_of": "net * most=4000", "schedule_at": "net number * most=4000",
+             "index_of": "net schedule * most=4000", "ahead_of": "net one other * most=4000",
+             "places_of": "net event * most=4000", "greatest": "net weights * most=4000"},
+    logs: {"is_log": "net log * most=400", "logs_of": "net * most=400", "least_log": "net * most=400",
+           "parted": "one other * most=400"},
+    joins: {"beside": "one other", "behind": "one other", "renamed": "net sign", "loosened": "net event at"},
 }
 
 METHODS = {
@@ -30,6 +37,7 @@ METHODS = {
     nets.Net: "needs notes __str__ __eq__ __len__ __contains__",
     cuts.Cut: "__len__ __contains__ __add__ __or__ __and__ within __eq__ __lt__ __le__ __gt__ __ge__ packed",
     orders.Paper: "holds",
+    shelf.Shelf: "__call__ __setitem__ __getitem__ __contains__ __len__",
 }
 STATIC = {programs.Program: "read", nets.Net: "of read", cuts.Cut: "unpacked without full"}
 
@@ -51,7 +59,7 @@ def arguments_of(function):
 class Interface(unittest.TestCase):
     def test_names_are_defined_in_their_modules(self):
         for module, names in ((errors, ERRORS), (programs, ["Program"]), (tales, ["Tale"]), (loops, ["Loop"]),
-                              (nets, ["Net"]), (cuts, ["Cut"]), (orders, ["Paper"])):
+                              (nets, ["Net"]), (cuts, ["Cut"]), (orders, ["Paper"]), (shelf, ["Shelf"])):
             for name in names:
                 found = getattr(module, name)
                 self.assertTrue(inspect.isclass(found))
@@ -86,7 +94,8 @@ class Interface(unittest.TestCase):
                             (nets.Net.read, "text"), (nets.Net.needs, "self event"), (nets.Net.notes, "self event"),
                             (cuts.Cut, "net events"), (cuts.Cut.within, "self other"), (cuts.Cut.packed, "self"),
                             (cuts.Cut.unpacked, "net data"), (cuts.Cut.without, "net events"), (cuts.Cut.full, "net"),
-                            (orders.Paper, "word one other events"), (orders.Paper.holds, "self net")):
+                            (orders.Paper, "word one other events"), (orders.Paper.holds, "self net"),
+                            (shelf.Shelf, ""), (shelf.Shelf.__call__, "self row")):
             self.assertEqual(list(inspect.signature(call).parameters), names.split())
 
     def test_default_values(self):
@@ -103,6 +112,7 @@ class Interface(unittest.TestCase):
         self.assertLessEqual({"net", "events", "is_full"}, set(vars(cut)))
         self.assertEqual(cut.ready, ("main.0",))
         self.assertLessEqual({"word", "one", "other", "events"}, set(vars(orders.Paper("", "", "", ""))))
+        self.assertEqual(vars(shelf.Shelf())["names"], ())
 
 
 class Files(unittest.TestCase):
