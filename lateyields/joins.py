@@ -1,6 +1,6 @@
 """Nets that are made of other nets."""
 
-from lateyields.checks import check_events, is_index
+from lateyields.checks import is_index
 from lateyields.errors import BadRow, Taken
 from lateyields.nets import Net
 
@@ -23,7 +23,6 @@ def renamed(net, sign):
 
 def loosened(net, event, at):
     """The net without one of the needs of an event."""
-    check_events(net, [event])
     kept = list(net.needs(event))
     if not is_index(at, len(kept)):
         raise BadRow(at)

@@ -32,8 +32,8 @@ class Lattice:
 
     def rows_of(self, sets):
         """Sets of events as ascending tuples, ascending by the number of their events and then as tuples."""
-        rows = [self.events_in(bits) for bits in sets]
-        return [row for _, row in sorted(set([(len(row), row) for row in rows]))]
+        found = [self.events_in(bits) for bits in sets]
+        return [row for _, row in sorted(set([(len(events), events) for events in found]))]
 
     def lasts(self):
         """For each cut the bits of those of its events that can have come as the last one."""

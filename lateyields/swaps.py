@@ -13,7 +13,8 @@ def swaps(net, one, other):
         # It is ready behind the entries that stand there by now, and those that it passes keep all that they had ahead:
         # so all rows between are schedules. Each exchange is of a pair that the other schedule has the other way round.
         found = row.index(event)
-        row.insert(at, row.pop(found))
+        del row[found]
+        row.insert(at, event)
         places.extend(list(reversed(range(at, found))))
     return places
 

@@ -44,7 +44,7 @@ def unlike_ways(net, *, most=4000):
 def _least_of(sets):
     """Those of the sets (lists of bits) that have no smaller one within them, as integers."""
     least = []
-    for _, bits in sorted(set([(len(bits), sum(bits)) for bits in sets])):
+    for _, bits in sorted(set([(len(one), sum(one)) for one in sets])):
         if not _has_within(bits, least):
             least.append(bits)
     return least

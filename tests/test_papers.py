@@ -276,6 +276,8 @@ class Holds(unittest.TestCase):
         self.check(False, "ahead", "a", "d", "b c e f p z")
         self.check(False, "loose", "a", "z", "")
         self.check(False, "loose", "z", "a", "")
+        self.check(False, "ahead", "a", "z", "b c e f p")
+        self.check(False, "behind", "z", "a", "b c e f p")
         self.assertFalse(Paper("loose", "a", "b", ()).holds(Net({})))
 
     def test_any_other_values(self):
@@ -294,6 +296,12 @@ class Holds(unittest.TestCase):
                 self.assertIs(Paper(word, "a", "b", value).holds(self.net), False)
                 self.assertIs(Paper(word, "a", "b", [value]).holds(self.net), False)
                 self.assertIs(Paper(word, "a", "b", ("p", value)).holds(self.net), False)
+
+    def test_values_that_are_equal_to_everything(self):
+        events = ("b", "c", "e", "f", "p")
+        self.assertIs(Paper(Like("ahead"), "a", "d", events).holds(self.net), False)
+        self.assertIs(Paper("ahead", "a", Like("d"), events).holds(self.net), False)
+        self.assertIs(Paper("ahead", "a", "d", events + (Like("p"),)).holds(self.net), False)
 
     def test_a_string_of_events(self):
         net = Net.read("a\nb\nc\nd < c")

@@ -1,8 +1,9 @@
 """Points [33] and [34]: ways and blockers, found the long way too, and nets that are too wide."""
 
+import itertools
 import unittest
 
-from all_orders import blockers_of, ways_of
+from all_orders import blockers_of, least_of, ways_of
 from helper import raised, strange_values
 from lateyields.errors import Never, TooWide, Unknown
 from lateyields.nets import Net
@@ -88,6 +89,19 @@ class Blockers(unittest.TestCase):
                     self.assertNotIn(event, one)
                     for row in rows:
                         self.assertTrue(set(one) & set(row))
+
+    def test_ways_are_the_least_sets_that_meet_each_blocker(self):
+        for net, _, _ in small_nets():
+            for event in net.events:
+                others = [one for one in net.events if one != event]
+                sets = [frozenset(row) for many in range(len(others) + 1)
+                        for row in itertools.combinations(others, many)]
+                rows = [set(row) - {event} for row in ways(net, event)]
+                kept = [set(row) for row in blockers(net, event)]
+                self.assertEqual(least_of([one for one in sets if all(one & row for row in rows)]),
+                                 blockers(net, event))
+                self.assertEqual(least_of([one for one in sets if all(one & row for row in kept)]),
+                                 least_of([frozenset(row) for row in rows]))
 
     def test_many(self):
         names = ["e" + str(at) for at in range(8)]
